@@ -1,0 +1,1 @@
+"""Holdplaces: places that hold the rest of a web."""

@@ -1,0 +1,155 @@
+"""The rules of LANGUAGE.md that can be read off the package's files one by one."""
+
+import ast
+import builtins
+import pathlib
+import re
+import unittest
+
+FOLDER = pathlib.Path(__file__).resolve().parent.parent / "holdplaces"
+
+STATEMENTS = (
+    ast.Assign, ast.AugAssign, ast.AnnAssign, ast.If, ast.While, ast.For, ast.Return, ast.Break, ast.Continue,
+    ast.Pass, ast.Raise, ast.Assert, ast.Delete, ast.Try, ast.Expr, ast.FunctionDef, ast.ClassDef, ast.ImportFrom,
+)
+NO_EXPRESSIONS = (
+    ast.GeneratorExp, ast.NamedExpr, ast.Div, ast.MatMult, ast.Await, ast.Yield, ast.YieldFrom,
+)
+AT_THE_TOP = (ast.Expr, ast.ImportFrom, ast.FunctionDef, ast.ClassDef, ast.Assign)
+BUILTINS = set(
+    "len range enumerate zip min max sum abs sorted reversed int str bool bytes list tuple dict set frozenset "
+    "isinstance ord repr any all divmod Exception ValueError TypeError KeyError IndexError LookupError "
+    "ZeroDivisionError ArithmeticError OverflowError RuntimeError NotImplementedError AttributeError "
+    "StopIteration".split()
+)
+METHODS = {"__init__", "__eq__", "__repr__", "__str__", "__len__"}
+NO_WORDS = (
+    r"\b(type|typing|typing_extensions|enum|Enum|IntEnum|StrEnum|Flag|IntFlag|Generic|Protocol|ABC|ABCMeta|"
+    r"namedtuple|NamedTuple|TypedDict|TYPE_CHECKING|abstractmethod)\b|dataclass|overload|contextmanager"
+)
+NO_NAMES = set(
+    "register mro elements open input version_info with_traceback add_note attrgetter breakpoint builtins compile "
+    "copyright credits delattr dir eval exec exit gc getattr globals hasattr help id importlib license locals "
+    "methodcaller os quit setattr super sys vars __name__".split()
+)
+
+
+def sources():
+    return {path.stem: path.read_text(encoding="utf-8") for path in sorted(FOLDER.glob("*.py"))}
+
+
+def bound_names(tree):
+    """All names that a file gives a meaning to, but those of its imports."""
+    for node in ast.walk(tree):
+        if isinstance(node, (ast.FunctionDef, ast.ClassDef)):
+            yield node.name
+        elif isinstance(node, ast.arg):
+            yield node.arg
+        elif isinstance(node, ast.Name) and isinstance(node.ctx, ast.Store):
+            yield node.id
+        elif isinstance(node, ast.ExceptHandler) and node.name:
+            yield node.name
+
+
+def top_names(tree):
+    for node in tree.body:
+        if isinstance(node, (ast.FunctionDef, ast.ClassDef)):
+            yield node.name
+        elif isinstance(node, ast.Assign):
+            yield from (target.id for target in node.targets)
+
+
+class Language(unittest.TestCase):
+    def setUp(self):
+        self.sources = sources()
+        self.trees = {name: ast.parse(text) for name, text in self.sources.items()}
+
+    def nodes(self, kind):
+        for name, tree in self.trees.items():
+            for node in ast.walk(tree):
+                if isinstance(node, kind):
+                    yield name, node
+
+    def test_files(self):
+        for path in FOLDER.iterdir():
+            if path.name != "__pycache__":
+                self.assertRegex(path.name, r"^(__init__|__main__|[a-z][a-z0-9_]*)\.py$")
+
+    def test_sizes_signs_and_words(self):
+        for name, text in self.sources.items():
+            self.assertRegex(text, r"\A[ -~\n]*\Z", name)
+            self.assertLessEqual(text.count("\n"), 400, name)
+            self.assertLessEqual(max(len(line) for line in text.split("\n")), 120, name)
+            self.assertIsNone(re.search(NO_WORDS, text), name)
+        for name, node in self.nodes(ast.FunctionDef):
+            self.assertLessEqual(node.end_lineno - node.lineno + 1, 40, (name, node.name))
+
+    def test_statements_and_expressions(self):
+        for name, node in self.nodes(ast.stmt):
+            self.assertIsInstance(node, STATEMENTS, name)
+        for name, node in self.nodes(NO_EXPRESSIONS):
+            self.fail((name, ast.dump(node)))
+        for name, node in self.nodes((ast.For, ast.While)):
+            self.assertEqual(node.orelse, [], name)
+        for name, tree in self.trees.items():
+            for node in tree.body:
+                self.assertIsInstance(node, AT_THE_TOP, name)
+
+    def test_functions_and_classes_are_plain(self):
+        for name, node in self.nodes((ast.FunctionDef, ast.ClassDef)):
+            self.assertEqual(node.decorator_list, [], name)
+        for name, node in self.nodes(ast.arguments):
+            self.assertEqual((node.vararg, node.kwarg, node.posonlyargs), (None, None, []), name)
+        for name, node in self.nodes(ast.ClassDef):
+            self.assertLessEqual(len(node.bases), 1, name)
+
+    def test_values(self):
+        for name, node in self.nodes(ast.Constant):
+            self.assertNotIsInstance(node.value, (float, complex), name)
+            if isinstance(node.value, str):
+                self.assertNotIn("%", node.value, name)
+        for name, node in self.nodes(ast.Compare):
+            for how, other in zip(node.ops, node.comparators):
+                if isinstance(how, (ast.Is, ast.IsNot)):
+                    self.assertIn(getattr(other, "value", "other"), (None, True, False), name)
+        for name, node in self.nodes(ast.BinOp):
+            if isinstance(node.op, ast.Pow):
+                self.assertIsInstance(node.right, ast.Constant, name)
+
+    def test_names(self):
+        for name, tree in self.trees.items():
+            known = BUILTINS | set(bound_names(tree)) | {
+                alias.asname or alias.name for node in tree.body if isinstance(node, ast.ImportFrom)
+                for alias in node.names
+            }
+            for bound in bound_names(tree):
+                self.assertTrue(bound in METHODS or re.match(r"^[A-Za-z][A-Za-z0-9_]*$", bound), (name, bound))
+                self.assertFalse(bound in vars(builtins) or bound in NO_NAMES, (name, bound))
+            for node in ast.walk(tree):
+                if isinstance(node, ast.Name):
+                    self.assertIn(node.id, known, name)
+            tops = list(top_names(tree))
+            self.assertEqual(len(tops), len(set(tops)), name)
+
+    def test_imports_name_the_file_that_defines_the_name_and_go_one_way(self):
+        uses = {name: set() for name in self.trees}
+        for name, node in self.nodes(ast.ImportFrom):
+            self.assertRegex(node.module, r"^holdplaces\.[a-z_0-9]+$", name)
+            self.assertIn(node, self.trees[name].body)
+            uses[name].add(node.module.split(".")[1])
+            for alias in node.names:
+                self.assertIn(alias.name, list(top_names(self.trees[node.module.split(".")[1]])), name)
+        while uses:
+            free = [name for name, needs in uses.items() if not needs & set(uses)]
+            self.assertTrue(free, f"these import one another: {sorted(uses)}")
+            uses = {name: needs for name, needs in uses.items() if name not in free}
+
+    def test_no_local_name_is_that_of_an_import_or_a_class(self):
+        for name, tree in self.trees.items():
+            taken = {alias.asname or alias.name for node in tree.body if isinstance(node, ast.ImportFrom)
+                     for alias in node.names}
+            self.assertEqual(taken & set(bound_names(tree)), set(), name)
+
+
+if __name__ == "__main__":
+    unittest.main()
