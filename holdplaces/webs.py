@@ -28,8 +28,12 @@ def need_web(thing):
         raise NoWeb("a web is due")
 
 
+def is_place(web, thing):
+    return is_between(thing, 0, web[0] - 1)
+
+
 def need_place(web, thing):
-    if not is_between(thing, 0, web[0] - 1):
+    if not is_place(web, thing):
         raise NoPlace("a place of the web is due")
 
 

@@ -1,6 +1,5 @@
 """0.3, 0.4, 1.3, 1.4 and the interface of kinds.py."""
 
-import inspect
 import itertools
 import unittest
 
@@ -8,18 +7,17 @@ from holdplaces import kinds
 from holdplaces.errors import NoNumber, NoWeb, TooGreat
 from holdplaces.kinds import beside, block, crowned, full, ring, row, star
 from holdplaces.webs import is_web
-from things import GREATS, NO_WEBS, NO_WHOLES, WEBS_OF_8, refuse, small_webs, webs_of
+from things import GREATS, NO_WEBS, NO_WHOLES, WEBS_OF_8, check_arguments, refuse, small_webs, webs_of
 
 NO_NUMBERS = NO_WHOLES + GREATS
 
 
 class Interface(unittest.TestCase):
     def test_arguments_stand_in_the_order_told(self):
-        told = {"row": ["n"], "ring": ["n"], "full": ["n"], "star": ["n"], "block": ["a", "b"],
-                "beside": ["web", "other"], "crowned": ["web"]}
-        for name, arguments in told.items():
-            with self.subTest(name=name):
-                self.assertEqual(list(inspect.signature(getattr(kinds, name)).parameters), arguments)
+        check_arguments(self, kinds, {
+            "row": ["n"], "ring": ["n"], "full": ["n"], "star": ["n"], "block": ["a", "b"],
+            "beside": ["web", "other"], "crowned": ["web"],
+        })
 
 
 class OneNumber(unittest.TestCase):

@@ -2,9 +2,12 @@
 
 import ast
 import builtins
+import io
 import pathlib
 import re
+import tokenize
 import unittest
+import warnings
 
 FOLDER = pathlib.Path(__file__).resolve().parent.parent / "holdplaces"
 
@@ -33,6 +36,21 @@ NO_NAMES = set(
     "methodcaller os quit setattr super sys vars __name__".split()
 )
 
+ON_BUILTINS = set(
+    "append clear copy count endswith extend find get index insert isalnum isalpha isdigit islower isspace isupper "
+    "items join keys ljust lower lstrip partition pop remove replace reverse rfind rjust rpartition rsplit rstrip "
+    "setdefault split splitlines startswith strip update upper values zfill bit_length".split()
+)
+CHANGING = {"append", "clear", "extend", "insert", "pop", "remove", "reverse", "setdefault", "update", "sort"}
+AT_ONCE = {"zip", "enumerate", "reversed", "range", "items", "keys", "values"}
+TAKE_AT_ONCE = {"list", "tuple", "dict", "sorted", "sum", "any", "all", "enumerate", "zip", "min", "max"}
+KEYWORDS = {
+    "sorted": {"key", "reverse"}, "min": {"key", "default"}, "max": {"key", "default"}, "sum": {"start"},
+    "enumerate": {"start"}, "zip": {"strict"},
+}
+KEYS = {"len", "int", "str", "abs", "sum", "min", "max", "tuple"}
+KINDS = {"int", "str", "bool", "bytes", "list", "tuple", "dict"}
+
 
 def sources():
     return {path.stem: path.read_text(encoding="utf-8") for path in sorted(FOLDER.glob("*.py"))}
@@ -57,6 +75,17 @@ def top_names(tree):
             yield node.name
         elif isinstance(node, ast.Assign):
             yield from (target.id for target in node.targets)
+
+
+def called(node):
+    """The name that a call calls, be it a function's or a method's."""
+    if isinstance(node.func, ast.Name):
+        return node.func.id
+    return node.func.attr if isinstance(node.func, ast.Attribute) else None
+
+
+def parents(tree):
+    return {below: node for node in ast.walk(tree) for below in ast.iter_child_nodes(node)}
 
 
 class Language(unittest.TestCase):
@@ -149,6 +178,114 @@ class Language(unittest.TestCase):
             taken = {alias.asname or alias.name for node in tree.body if isinstance(node, ast.ImportFrom)
                      for alias in node.names}
             self.assertEqual(taken & set(bound_names(tree)), set(), name)
+
+    def test_no_local_name_is_that_of_a_function_of_its_file(self):
+        for name, tree in self.trees.items():
+            tops = set(top_names(tree))
+            for node in ast.walk(tree):
+                if isinstance(node, ast.arg):
+                    self.assertNotIn(node.arg, tops, name)
+            for function in tree.body:
+                if isinstance(function, ast.FunctionDef):
+                    local = {node.id for node in ast.walk(function)
+                             if isinstance(node, ast.Name) and isinstance(node.ctx, ast.Store)}
+                    self.assertEqual(local & tops, set(), (name, function.name))
+
+    def test_nothing_that_python_warns_of(self):
+        with warnings.catch_warnings():
+            warnings.simplefilter("error")
+            for name, text in self.sources.items():
+                compile(text, name, "exec")
+
+    def test_escapes(self):
+        for name, text in self.sources.items():
+            for token in tokenize.generate_tokens(io.StringIO(text).readline):
+                if "\\" in token.string:
+                    self.assertEqual(re.sub(r"\\[nt\\'\"]", "", token.string).count("\\"), 0, (name, token.string))
+
+    def test_plain_f_strings(self):
+        for name, node in self.nodes(ast.FormattedValue):
+            self.assertIsNone(node.format_spec, name)
+            for below in ast.walk(node.value):
+                self.assertNotIsInstance(getattr(below, "value", None), (str, bytes), name)
+
+    def test_values_at_the_top(self):
+        for name, tree in self.trees.items():
+            for node in tree.body:
+                if isinstance(node, ast.Assign):
+                    self.assertEqual([type(target) for target in node.targets], [ast.Name], name)
+                    value = ast.literal_eval(node.value)
+                    self.assertIsInstance(value, (int, str, tuple), name)
+
+    def test_no_set_and_no_star(self):
+        # sets are allowed in a few places only; up to now the package does without
+        for name, node in self.nodes((ast.Set, ast.SetComp, ast.Starred)):
+            self.fail((name, ast.dump(node)))
+        for name, node in self.nodes(ast.Name):
+            self.assertNotIn(node.id, ("set", "frozenset"), name)
+
+    def test_builtins_are_called_where_they_stand(self):
+        for name, tree in self.trees.items():
+            above = parents(tree)
+            for node in ast.walk(tree):
+                if not isinstance(node, ast.Name) or node.id not in BUILTINS or node.id[0].isupper():
+                    continue
+                upper = above[node]
+                if isinstance(upper, ast.Tuple):
+                    upper = above[upper]
+                if isinstance(upper, ast.keyword):
+                    self.assertEqual(upper.arg, "key", name)
+                    self.assertIn(node.id, KEYS, name)
+                elif isinstance(upper, ast.Call) and called(upper) == "isinstance" and upper.func is not node:
+                    self.assertIn(node.id, KINDS, name)
+                else:
+                    self.assertTrue(isinstance(upper, ast.Call) and upper.func is node, (name, node.lineno))
+
+    def test_keywords(self):
+        for name, node in self.nodes(ast.Call):
+            for keyword in node.keywords:
+                if isinstance(node.func, ast.Attribute) or called(node) in BUILTINS:
+                    self.assertIn(keyword.arg, KEYWORDS.get(called(node), ()), (name, node.lineno))
+
+    def test_methods(self):
+        own = {below.name for _, node in self.nodes(ast.ClassDef) for below in node.body
+               if isinstance(below, ast.FunctionDef)}
+        for name, tree in self.trees.items():
+            above = parents(tree)
+            for node in ast.walk(tree):
+                if isinstance(node, ast.Attribute) and isinstance(above[node], ast.Call) and above[node].func is node:
+                    self.assertIn(node.attr, ON_BUILTINS | own, (name, node.lineno))
+
+    def test_iterated_at_once(self):
+        for name, tree in self.trees.items():
+            above = parents(tree)
+            for node in ast.walk(tree):
+                if isinstance(node, ast.Call) and called(node) in AT_ONCE:
+                    upper = above[node]
+                    if isinstance(upper, ast.Call):
+                        self.assertIn(called(upper), TAKE_AT_ONCE, (name, node.lineno))
+                        self.assertIs(upper.args[0], node, (name, node.lineno))
+                    else:
+                        self.assertIsInstance(upper, (ast.For, ast.comprehension), (name, node.lineno))
+                        self.assertIs(upper.iter, node, (name, node.lineno))
+
+    def test_what_a_loop_goes_through_is_not_changed_in_it(self):
+        for name, loop in self.nodes(ast.For):
+            gone_through = {node.id for node in ast.walk(loop.iter) if isinstance(node, ast.Name)}
+            for node in (below for part in loop.body for below in ast.walk(part)):
+                if isinstance(node, ast.Call) and called(node) in CHANGING and isinstance(node.func, ast.Attribute):
+                    changed = node.func.value
+                elif isinstance(node, ast.Subscript) and not isinstance(node.ctx, ast.Load):
+                    changed = node.value
+                else:
+                    continue
+                self.assertNotIn(getattr(changed, "id", None), gone_through, (name, node.lineno))
+
+    def test_errors_are_made_where_they_are_raised(self):
+        classes = {node.name for _, node in self.nodes(ast.ClassDef)}
+        for name, node in self.nodes(ast.Raise):
+            self.assertIsInstance(node.exc, ast.Call, (name, node.lineno))
+            self.assertIn(called(node.exc), classes, (name, node.lineno))
 
 
 if __name__ == "__main__":

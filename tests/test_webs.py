@@ -1,13 +1,14 @@
 """0.1, 0.3, 0.4, 1.1, 1.2 and the interface of webs.py."""
 
-import inspect
 import itertools
 import unittest
 
 from holdplaces import webs
 from holdplaces.errors import NoPlace, NoWeb
 from holdplaces.webs import far, hood, hoods, is_tree, is_web, pieces
-from things import GREATS, NO_WEBS, NO_WHOLES, WEBS_OF_8, no_places, refuse, small_webs
+from things import (
+    GREATS, NO_WEBS, NO_WHOLES, WEBS_OF_8, check_arguments, check_own_list, no_places, refuse, sample_webs, small_webs,
+)
 
 ROW = (4, ((0, 1), (1, 2), (2, 3)))
 TWO_PIECES = (5, ((0, 3), (1, 4)))
@@ -25,17 +26,12 @@ def ways_between(web):
     return ways
 
 
-def sample_webs():
-    return list(small_webs(5)) + list(WEBS_OF_8)
-
-
 class Interface(unittest.TestCase):
     def test_arguments_stand_in_the_order_told(self):
-        told = {"is_web": ["thing"], "is_tree": ["web"], "hood": ["web", "place"], "hoods": ["web"],
-                "far": ["web", "one", "other"], "pieces": ["web"]}
-        for name, arguments in told.items():
-            with self.subTest(name=name):
-                self.assertEqual(list(inspect.signature(getattr(webs, name)).parameters), arguments)
+        check_arguments(self, webs, {
+            "is_web": ["thing"], "is_tree": ["web"], "hood": ["web", "place"], "hoods": ["web"],
+            "far": ["web", "one", "other"], "pieces": ["web"],
+        })
 
 
 class IsWeb(unittest.TestCase):
@@ -165,9 +161,7 @@ class Pieces(unittest.TestCase):
             self.assertEqual(told, sorted(due), web)
 
     def test_the_list_told_is_the_askers_own(self):
-        told = pieces(TWO_PIECES)
-        told[0] = (9,)
-        told.append("more")
+        check_own_list(self, pieces, TWO_PIECES)
         self.assertEqual(pieces(TWO_PIECES), [(0, 3), (1, 4), (2,)])
         self.assertEqual(TWO_PIECES, (5, ((0, 3), (1, 4))))
         self.assertIs(is_tree(TWO_PIECES), False)

@@ -1,5 +1,6 @@
-"""What the tests hand in: webs, things that are no webs, no places and no numbers."""
+"""What the tests hand in: webs, some, things that are none of these, and what several tests ask."""
 
+import inspect
 import itertools
 
 from holdplaces.errors import PlaceError
@@ -56,8 +57,33 @@ NO_WEBS = tuple(thing for thing in NO_WHOLES if thing != (1, ())) + GREATS + (
 )
 
 
+# no some whatever the number of places is
+NO_SOMES = GREATS + (
+    True, False, None, "", "0", "01", "0,1", "none", 0, 1, -1, 7, [], [0], [0, 1], [()], {}, {0: 1}, {0: 0, 1: 1},
+    deep(lambda inner: [inner], 10), deep(lambda inner: (inner,), 10), deep(lambda inner: {"in": inner}, 10),
+    # one thing in it that is no place
+    (True,), (False,), (None,), ("0",), ("",), ([],), ([0],), ((),), ((0,),), ((0, 1),), ({},), ({0: 1},),
+    (-1,), (8,), (9,), (99,), (GREAT,), (-GREAT,), (10 ** 30,),
+    # a place and what is none behind it or ahead of it
+    (0, True), (False, 1), (False, True), (0, "1"), ("0", 1), (0, None), (None, 0), (0, [1]), ([0], 1), (0, (1,)),
+    ((0,), 1), (0, {}), (0, ()), (-1, 0), (0, 8), (0, GREAT), (-GREAT, 0), (0, 1, True), (0, 1, "2"), (0, 1, 2, None),
+    # what does not rise or stands twice
+    (0, 0), (1, 0), (2, 0), (7, 6), (0, 1, 1), (0, 0, 1), (0, 1, 0), (0, 2, 1), (2, 1, 0), (1, 0, 2), (7, 7),
+    (0, False), (1, True), (True, True),
+)
+
+
 def no_places(many):
     return NO_WHOLES + GREATS + (-1, many, many + 1, -many)
+
+
+def no_somes(many):
+    places = tuple(range(many))
+    return NO_SOMES + (
+        (many,), (0, many), (many + 1,), places + (many,), places + (many - 1,), (0,) + places, (-1,) + places,
+        places[::-1] + (0,), (many - 1, 0), list(places), {place: True for place in places}, places + (None,),
+        (places,), "".join(str(place) for place in places),
+    )
 
 
 def webs_of(many):
@@ -93,6 +119,79 @@ WEBS_OF_8 = (
     (8, ALL_TIES_OF_8[1:]),
     (8, ALL_TIES_OF_8[:-1]),
 )
+
+# webs of 6 and 7 places: a row, a ring, a star, a block, all ties, several pieces, a crowned row
+WEBS_BETWEEN = (
+    (6, ((0, 1), (1, 2), (2, 3), (3, 4), (4, 5))),
+    (6, ((0, 1), (0, 3), (1, 2), (1, 4), (2, 5), (3, 4), (4, 5))),
+    (6, ((0, 1), (0, 3), (1, 2), (1, 4), (2, 5))),
+    (6, ((0, 5), (1, 2), (1, 3), (2, 3))),
+    (6, ()),
+    (7, ((0, 1), (0, 6), (1, 2), (2, 3), (3, 4), (4, 5), (5, 6))),
+    (7, ((0, 1), (0, 2), (0, 3), (0, 4), (0, 5), (0, 6))),
+    (7, tuple(itertools.combinations(range(7), 2))),
+    (7, ((0, 1), (0, 2), (1, 2), (3, 4), (4, 5), (5, 6))),
+)
+
+
+def sample_webs():
+    return list(small_webs(5)) + list(WEBS_BETWEEN) + list(WEBS_OF_8)
+
+
+def fewer_webs():
+    """For what is asked of all some of a web: not all webs of 5 places."""
+    return list(small_webs(4)) + list(webs_of(5))[::9] + list(WEBS_BETWEEN) + list(WEBS_OF_8)
+
+
+def somes_of(web):
+    """All some of a web, in the order of their sizes."""
+    for size in range(web[0] + 1):
+        yield from itertools.combinations(range(web[0]), size)
+
+
+def reach(web):
+    """For each place the set of those that it holds."""
+    held = {place: {place} for place in range(web[0])}
+    for a, b in web[1]:
+        held[a].add(b)
+        held[b].add(a)
+    return held
+
+
+def held_by(web, some):
+    held = reach(web)
+    return set().union(*(held[place] for place in some))
+
+
+def hold_all(web, some):
+    return len(held_by(web, some)) == web[0]
+
+
+def same(case, told, due, about=None):
+    """Equal, and of the same kinds through and through: 1 is not True, a list no tuple."""
+    case.assertEqual(repr(told), repr(due), about)
+
+
+def check_arguments(case, module, told):
+    for name, arguments in told.items():
+        with case.subTest(name=name):
+            parameters = inspect.signature(getattr(module, name)).parameters
+            case.assertEqual(list(parameters), arguments)
+
+
+def check_own_list(case, function, *handed):
+    """Checks that the list told may be changed, and is told the same again."""
+    before = repr(handed)
+    told = function(*handed)
+    case.assertIs(type(told), list)
+    due = repr(told)
+    told.reverse()
+    told.append("more")
+    told[0] = (9,)
+    case.assertEqual(repr(function(*handed)), due)
+    told.clear()
+    case.assertEqual(repr(function(*handed)), due)
+    case.assertEqual(repr(handed), before)
 
 
 def refuse(case, error, function, *handed):
