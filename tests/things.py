@@ -72,6 +72,18 @@ NO_SOMES = GREATS + (
     (0, False), (1, True), (True, True),
 )
 
+# no fractions
+NO_PARTS = (
+    1, 0, True, None, "1/2", "12", [1, 2], {1: 2}, (), (1,), (1, 1, 1), ((1, 2),), GREAT,
+    # not in lowest terms
+    (2, 2), (0, 2), (2, 4), (4, 2), (3, 3), (6, 4), (0, GREAT), (GREAT, GREAT), (GREAT, 3), (10 ** 30, 10),
+    # a bottom of 0 or below, a top below 0
+    (0, 0), (1, 0), (2, 0), (1, -1), (1, -2), (0, -1), (-1, 1), (-1, 2), (-1, -1), (-GREAT, 1), (1, -GREAT),
+    # what are no whole numbers
+    (True, 1), (False, 1), (1, True), (True, True), (False, True), ("1", 1), (1, "1"), ("1", "2"), (None, 1), (1, None),
+    ([1], 1), (1, [1]), (1, (1,)), ((1, 1), 1), ((1, 1), (1, 1)), (1, {}), ({}, 1),
+)
+
 
 def no_places(many):
     return NO_WHOLES + GREATS + (-1, many, many + 1, -many)
@@ -84,6 +96,18 @@ def no_somes(many):
         places[::-1] + (0,), (many - 1, 0), list(places), {place: True for place in places}, places + (None,),
         (places,), "".join(str(place) for place in places),
     )
+
+
+def no_shares(many):
+    ones = ((1, 1),) * many
+    things = NO_WHOLES + GREATS + (
+        0, 1, many, ones[1:], ones + ((1, 1),), ones + ((0, 1),), ones * 2, (ones,), list(ones), (ones, ones),
+        {place: (1, 1) for place in range(many)}, " ".join(["1/1"] * many), tuple(range(many)), (1,) * many,
+        ([1, 1],) * many,
+    )
+    for part in NO_PARTS:
+        things += ((part,) + ones[1:], ones[:-1] + (part,), (part,) * many, ones + (part,))
+    return things
 
 
 def webs_of(many):
@@ -143,6 +167,40 @@ def fewer_webs():
     return list(small_webs(4)) + list(webs_of(5))[::9] + list(WEBS_BETWEEN) + list(WEBS_OF_8)
 
 
+def tree_of(code):
+    """The tree of len(code) + 2 places that Pruefer's code, a tuple of any places, tells."""
+    many = len(code) + 2
+    left = list(range(many))
+    ties = []
+    for at, place in enumerate(code):
+        leaf = min(one for one in left if one not in code[at:])
+        ties.append((min(leaf, place), max(leaf, place)))
+        left.remove(leaf)
+    return (many, tuple(sorted(ties + [tuple(left)])))
+
+
+def trees_of(many, every=1):
+    """All trees of so many places, or one of every so many of them."""
+    if many == 1:
+        return [(1, ())]
+    codes = itertools.product(range(many), repeat=many - 2)
+    return [tree_of(code) for code in itertools.islice(codes, 0, None, every)]
+
+
+def sample_trees():
+    small = [tree for many in range(1, 6) for tree in trees_of(many)]
+    return small + trees_of(6, 17) + trees_of(7, 211) + trees_of(8, 3331)
+
+
+NO_TREES = (
+    (2, ()), (3, ()), (3, ((0, 1),)), (3, ((0, 1), (0, 2), (1, 2))), (4, ((0, 1), (2, 3))),
+    # as many ties as a tree has, but two pieces
+    (4, ((0, 1), (0, 2), (1, 2))), (6, ((0, 1), (0, 2), (1, 2), (3, 4), (4, 5))),
+    # one piece, but a tie too many
+    (4, ((0, 1), (0, 3), (1, 2), (2, 3))), (5, ((0, 1), (0, 2), (1, 2), (2, 3), (3, 4))),
+) + WEBS_OF_8[:3] + WEBS_OF_8[4:5] + WEBS_OF_8[7:]
+
+
 def somes_of(web):
     """All some of a web, in the order of their sizes."""
     for size in range(web[0] + 1):
@@ -165,6 +223,28 @@ def held_by(web, some):
 
 def hold_all(web, some):
     return len(held_by(web, some)) == web[0]
+
+
+def less(some, place):
+    return tuple(one for one in some if one != place)
+
+
+def left_out_by_hand(web, some):
+    """The last one that can be left out of some that hold all is left out, again and again."""
+    going = True
+    while going:
+        going = False
+        for place in reversed(some):
+            if hold_all(web, less(some, place)):
+                some = less(some, place)
+                going = True
+                break
+    return some
+
+
+def hoods_apart(web, some):
+    held = reach(web)
+    return all(held[one].isdisjoint(held[other]) for one, other in itertools.combinations(some, 2))
 
 
 def same(case, told, due, about=None):
