@@ -50,6 +50,11 @@ KEYWORDS = {
 }
 KEYS = {"len", "int", "str", "abs", "sum", "min", "max", "tuple"}
 KINDS = {"int", "str", "bool", "bytes", "list", "tuple", "dict"}
+# what a value at the top may be made of
+PLAIN = (
+    ast.Constant, ast.Tuple, ast.List, ast.Dict, ast.Name, ast.Load, ast.UnaryOp, ast.USub, ast.BinOp, ast.Pow, ast.Add,
+    ast.Sub, ast.Mult, ast.FloorDiv,
+)
 
 
 def sources():
@@ -211,11 +216,118 @@ class Language(unittest.TestCase):
 
     def test_values_at_the_top(self):
         for name, tree in self.trees.items():
+            above = set()
             for node in tree.body:
+                if isinstance(node, ast.FunctionDef):
+                    above.add(node.name)
                 if isinstance(node, ast.Assign):
                     self.assertEqual([type(target) for target in node.targets], [ast.Name], name)
-                    value = ast.literal_eval(node.value)
-                    self.assertIsInstance(value, (int, str, tuple), name)
+                    self.check_plain(node.value, above, name)
+
+    def check_plain(self, value, above, name):
+        """A plain value that can be computed, with functions that stand above it where it is a table."""
+        table = isinstance(value, (ast.List, ast.Tuple, ast.Dict))
+        for node in ast.walk(value):
+            self.assertIsInstance(node, PLAIN, (name, value.lineno))
+            if isinstance(node, ast.Name):
+                self.assertTrue(table and node.id in above, (name, node.id))
+            if isinstance(node, (ast.List, ast.Dict)):
+                self.assertIs(node, value, (name, value.lineno))
+        computed = eval(compile(ast.Expression(value), name, "eval"), {function: function for function in above})
+        self.assertLessEqual(len(repr(computed)), 50000, name)
+
+    def test_tables_are_only_read(self):
+        for name, tree in self.trees.items():
+            above = parents(tree)
+            tables = {node.targets[0].id for node in tree.body if isinstance(node, ast.Assign)
+                      and isinstance(node.value, (ast.List, ast.Dict))}
+            for node in ast.walk(tree):
+                if not isinstance(node, ast.Name) or node.id not in tables or isinstance(node.ctx, ast.Store):
+                    continue
+                upper = above[node]
+                read = isinstance(upper, ast.Subscript) and upper.value is node and isinstance(upper.ctx, ast.Load)
+                sought = isinstance(upper, ast.Compare) and isinstance(upper.ops[0], (ast.In, ast.NotIn))
+                self.assertTrue(read or sought, (name, node.id))
+        for name, node in self.nodes(ast.ImportFrom):
+            for alias in node.names:
+                self.assertFalse(alias.name.isupper() and alias.name in self.tables(node.module), (name, alias.name))
+
+    def tables(self, module):
+        return {node.targets[0].id for node in self.trees[module.split(".")[1]].body
+                if isinstance(node, ast.Assign) and isinstance(node.value, (ast.List, ast.Dict))}
+
+    def test_what_is_called_is_a_name_or_a_method(self):
+        for name, node in self.nodes(ast.Call):
+            self.assertIsInstance(node.func, (ast.Name, ast.Attribute), (name, node.lineno))
+
+    def test_own_functions_are_called_with_what_they_take(self):
+        tops = {(name, node.name): node for name, tree in self.trees.items() for node in tree.body
+                if isinstance(node, (ast.FunctionDef, ast.ClassDef))}
+        for name, tree in self.trees.items():
+            known = {key[1]: node for key, node in tops.items() if key[0] == name}
+            for node in tree.body:
+                if isinstance(node, ast.ImportFrom):
+                    module = node.module.split(".")[1]
+                    known.update({alias.name: tops[module, alias.name] for alias in node.names
+                                  if (module, alias.name) in tops})
+            for node in ast.walk(tree):
+                if isinstance(node, ast.Call) and isinstance(node.func, ast.Name) and node.func.id in known:
+                    self.assertEqual(node.keywords, [], (name, node.lineno))
+                    self.check_taken(node, known[node.func.id], (name, node.lineno))
+
+    def check_taken(self, call, taker, about):
+        if isinstance(taker, ast.FunctionDef):
+            self.assertEqual(taker.args.defaults, [], about)
+            self.assertEqual(len(call.args), len(taker.args.args), about)
+            return
+        made = [node for node in taker.body if isinstance(node, ast.FunctionDef) and node.name == "__init__"]
+        if made:
+            self.assertEqual(len(call.args), len(made[0].args.args) - 1, about)
+        else:
+            # an error without an __init__ of its own is handed texts
+            self.assertTrue(all(isinstance(arg, ast.JoinedStr) or isinstance(getattr(arg, "value", None), str)
+                                for arg in call.args), about)
+
+    def test_attributes_and_methods_of_classes(self):
+        methods, fields = set(), set()
+        for name, node in self.nodes(ast.ClassDef):
+            names = [below.name for below in node.body if isinstance(below, ast.FunctionDef)]
+            self.assertEqual(len(names), len(set(names)), name)
+            methods |= set(names)
+            for below in node.body:
+                if isinstance(below, ast.Expr):
+                    self.assertIsInstance(below.value, ast.Constant, name)
+                else:
+                    self.assertIsInstance(below, ast.FunctionDef, name)
+        for name, node in self.nodes(ast.Attribute):
+            if isinstance(node.ctx, ast.Store):
+                self.assertIsInstance(node.value, ast.Name, (name, node.lineno))
+                fields.add(node.attr)
+        self.assertEqual(methods & fields, set())
+        builtin = set().union(*(dir(kind) for kind in (str, int, list, dict, set, bytes, tuple, bool)))
+        self.assertEqual((methods - METHODS | fields) & (builtin | NO_NAMES | {"args", "format", "sort"}), set())
+        for name, tree in self.trees.items():
+            above = parents(tree)
+            for node in ast.walk(tree):
+                if isinstance(node, ast.Attribute) and isinstance(node.ctx, ast.Load):
+                    upper = above[node]
+                    if not (isinstance(upper, ast.Call) and upper.func is node):
+                        self.assertIn(node.attr, fields, (name, node.lineno))
+
+    def test_no_handler(self):
+        # L19 allows few; up to now the package does without
+        for name, node in self.nodes((ast.Try, ast.Delete, ast.Lambda)):
+            self.fail((name, node.lineno))
+
+    def test_classes_are_called_or_stand_below_others(self):
+        classes = {node.name for _, node in self.nodes(ast.ClassDef)}
+        for name, tree in self.trees.items():
+            above = parents(tree)
+            for node in ast.walk(tree):
+                if isinstance(node, ast.Name) and node.id in classes:
+                    upper = above[node]
+                    called_there = isinstance(upper, ast.Call) and upper.func is node
+                    self.assertTrue(called_there or isinstance(upper, ast.ClassDef), (name, node.lineno))
 
     def test_no_set_and_no_star(self):
         # sets are allowed in a few places only; up to now the package does without
