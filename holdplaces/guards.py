@@ -42,7 +42,6 @@ def fewest_guards(web):
 
 
 def first_guards(web):
-    need_web(web)
     family = []
     number = 0
     # a guard on each place is a lasting family, so this ends

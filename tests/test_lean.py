@@ -7,7 +7,7 @@ from holdplaces import lean
 from holdplaces.errors import NoPlaces, NotAll, NotUntied, NoWeb
 from holdplaces.lean import all_lean, grown, is_lean, leaned, untied_holders
 from things import (
-    GREATS, NO_SOMES, NO_WEBS, WEBS_OF_8, check_arguments, check_own_list, fewer_webs, held_by, hold_all,
+    GREATS, NO_SOMES, NO_WEBS, WEBS_OF_8, apart_by_ties, check_arguments, check_own_list, fewer_webs, held_by, hold_all,
     left_out_by_hand, less, no_somes, refuse, same, sample_webs, somes_of,
 )
 
@@ -25,10 +25,6 @@ FULL_OF_8 = WEBS_OF_8[12]
 def least(web, some):
     """Whether some hold all, and no longer once any one of them is left out."""
     return hold_all(web, some) and not any(hold_all(web, less(some, place)) for place in some)
-
-
-def apart_by_ties(web, some):
-    return not any(pair in web[1] for pair in itertools.combinations(some, 2))
 
 
 def put_by_hand(web, some):

@@ -2,6 +2,7 @@
 
 import inspect
 import itertools
+import re
 
 from holdplaces.errors import PlaceError
 
@@ -70,6 +71,12 @@ NO_SOMES = GREATS + (
     # what does not rise or stands twice
     (0, 0), (1, 0), (2, 0), (7, 6), (0, 1, 1), (0, 0, 1), (0, 1, 0), (0, 2, 1), (2, 1, 0), (1, 0, 2), (7, 7),
     (0, False), (1, True), (True, True),
+)
+
+# of anything, but no texts
+NO_TEXTS = tuple(thing for thing in NO_WHOLES if not isinstance(thing, str)) + GREATS + (
+    0, 1, 3, -1, (3, ((0, 1),)), ["1"], ("1",), {"1": "1"}, ["3 0-1"], ("none",), ["none"], (0, 1), [["1"]], ["web"],
+    ("web",), ["put", "0"], ("tie", "0", "1"), {"web": "1"}, [["back"]],
 )
 
 # no fractions
@@ -245,6 +252,41 @@ def left_out_by_hand(web, some):
 def hoods_apart(web, some):
     held = reach(web)
     return all(held[one].isdisjoint(held[other]) for one, other in itertools.combinations(some, 2))
+
+
+def apart_by_ties(web, some):
+    return not any(pair in web[1] for pair in itertools.combinations(some, 2))
+
+
+def text_of_web(web):
+    text = str(web[0])
+    for a, b in web[1]:
+        text += f" {a}-{b}"
+    return text
+
+
+def text_of_some(some):
+    return str(some).strip("(,)").replace(", ", ",") or "none"
+
+
+def web_by_hand(text):
+    """The web that a text writes, None where it writes none."""
+    if not re.fullmatch("[1-8]( [0-7]-[0-7])*", text):
+        return None
+    many = int(text[0])
+    ties = tuple((int(a), int(b)) for a, b in re.findall("([0-7])-([0-7])", text))
+    places = all(a < b < many for a, b in ties)
+    return (many, ties) if places and list(ties) == sorted(set(ties)) else None
+
+
+def some_by_hand(web, text):
+    """The some of a web that a text writes, None where it writes none."""
+    if text == "none":
+        return ()
+    if not re.fullmatch("[0-7](,[0-7])*", text):
+        return None
+    some = tuple(int(figure) for figure in text.split(","))
+    return some if list(some) == sorted(set(some)) and some[-1] < web[0] else None
 
 
 def same(case, told, due, about=None):
